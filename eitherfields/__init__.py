@@ -1,0 +1,1 @@
+"""Eitherfields: forms whose rules are decided by pairs."""
