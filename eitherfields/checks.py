@@ -4,11 +4,12 @@ A function .._fits tells of any value whether it is one; a function need_.. rais
 All but sheet_fits and need_sheet take a sheet that is one.
 """
 
-from eitherfields.errors import InvalidBook, InvalidEntry, InvalidField, InvalidFilling
+from eitherfields.errors import InvalidBook, InvalidChoice, InvalidEntry, InvalidField, InvalidFilling
 from eitherfields.errors import InvalidPart, InvalidRule, InvalidSheet
 
 MOST_FIELDS = 8
 MOST_VALUES = 5
+MOST_ASKED = 1000
 
 
 def between(value, low, high):
@@ -112,6 +113,20 @@ def filling_fits(sheet, value):
     return part_fits(sheet, value) and None not in value
 
 
+def kept_fit(sheet, value):
+    """Whether any value is an ascending tuple of one or more fields."""
+    if type(value) != tuple or len(value) == 0:
+        return False
+    return all([field_fits(sheet, field) for field in value]) and ascending(value)
+
+
+def seen_fit(sheet, value):
+    """Whether any value is a list of one or more fillings."""
+    if type(value) != list or len(value) == 0:
+        return False
+    return all([filling_fits(sheet, filling) for filling in value])
+
+
 def need_sheet(sheet):
     """Raises InvalidSheet unless it is a sheet."""
     if not sheet_fits(sheet):
@@ -122,6 +137,13 @@ def need_field(sheet, field):
     """Raises InvalidField unless it is a field of the sheet."""
     if not field_fits(sheet, field):
         raise InvalidField("a field is an integer from 0 on, less than the number of fields")
+
+
+def need_other_field(sheet, field, other_field):
+    """Raises InvalidField unless it is a field of the sheet, and another one than field."""
+    need_field(sheet, other_field)
+    if other_field == field:
+        raise InvalidField("the other field is another one than the first")
 
 
 def need_entry(sheet, field, entry):
@@ -148,7 +170,31 @@ def need_part(sheet, part):
         raise InvalidPart("a part is a tuple with a value or None for each field of the sheet")
 
 
+def need_part_or_none(sheet, part):
+    """Raises InvalidPart unless it is a part of the sheet or None."""
+    if part is not None:
+        need_part(sheet, part)
+
+
 def need_filling(sheet, filling):
     """Raises InvalidFilling unless it is a filling of the sheet."""
     if not filling_fits(sheet, filling):
         raise InvalidFilling("a filling is a tuple with a value for each field of the sheet")
+
+
+def need_kept_fields(sheet, kept_fields):
+    """Raises InvalidChoice unless it is an ascending tuple of one or more fields."""
+    if not kept_fit(sheet, kept_fields):
+        raise InvalidChoice("the kept fields are an ascending tuple of one or more fields of the sheet")
+
+
+def need_seen(sheet, seen):
+    """Raises InvalidChoice unless it is a list of one or more fillings."""
+    if not seen_fit(sheet, seen):
+        raise InvalidChoice("what is seen is a list of one or more fillings of the sheet")
+
+
+def need_most(most):
+    """Raises InvalidChoice unless it is a number of fillings that can be asked for."""
+    if not between(most, 1, MOST_ASKED):
+        raise InvalidChoice("at most is an integer from 1 to 1000")

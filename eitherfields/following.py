@@ -1,6 +1,7 @@
 """Following: what values force by the rules of a book, and whether they clash."""
 
 from eitherfields.checks import need_book, need_entry, need_field, need_part, need_sheet
+from eitherfields.sheets import fields_of
 
 
 def followed(sheet, book, part):
@@ -9,7 +10,7 @@ def followed(sheet, book, part):
     need_book(sheet, book)
     need_part(sheet, part)
     filled = [(field, value) for field, value in enumerate(part) if value is not None]
-    come, paper = spread(book, filled)
+    come, paper = spread(rules_by_field(sheet, book), filled)
     if paper is not None:
         return None
     # Without a clash no field has come twice.
@@ -23,12 +24,19 @@ def clash(sheet, book, field, entry):
     need_book(sheet, book)
     need_field(sheet, field)
     need_entry(sheet, field, entry)
-    _, paper = spread(book, [(field, entry)])
+    _, paper = spread(rules_by_field(sheet, book), [(field, entry)])
     return paper
 
 
-def spread(book, start):
-    """Follows the values of start, pairs (field, value) of different fields.
+def rules_by_field(sheet, book):
+    """For each field the list of the pairs (index, rule) of the rules that speak of it."""
+    spoken = [fields_of(rule) for rule in book]
+    return [[(index, rule) for index, rule in enumerate(book) if field in spoken[index]]
+            for field in range(len(sheet))]
+
+
+def spread(by_field, start):
+    """Follows the values of start, pairs (field, value) of different fields, by the rules of a book by their fields.
 
     Returns the list of all that has come, and None or the paper of the first clash met, at which it ends.
     """
@@ -37,7 +45,7 @@ def spread(book, start):
     at = 0
     while at < len(come):
         field, value = come[at]
-        for index, rule in enumerate(book):
+        for index, rule in by_field[field]:
             if refuses(rule, field, value):
                 return come, (tuple(steps), index)
             new = forced(rule, field, value)

@@ -76,3 +76,12 @@ def rule_holds(rule, filling):
         return (filling[field], filling[other_field]) in pairs
     _, field, value, other_field, other_value = rule
     return filling[field] == value or filling[other_field] == other_value
+
+
+def fields_of(rule):
+    """The ascending tuple of the fields of which a rule speaks."""
+    if rule[0] == "among":
+        return (rule[1],)
+    if rule[0] == "match":
+        return (rule[1], rule[2])
+    return (rule[1], rule[3])

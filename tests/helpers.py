@@ -6,6 +6,7 @@ Nothing here asks the functions of the package, so that each answer of theirs ha
 import random
 from itertools import combinations, permutations, product
 
+from eitherfields.books import RuleBook
 from eitherfields.errors import FieldError, InvalidSheet
 
 SMALL_SHEETS = [(1,), (2,), (4,), (2, 3), (3, 2), (1, 4), (2, 2, 2), (3, 1, 2), (2, 3, 2)]
@@ -169,6 +170,129 @@ def paper_fault(book, field, value, paper):
     return None if any(refused_by(book[last], *one) for one in come) else "nothing refused"
 
 
+# --- books to try, each with all fillings that keep it
+
+CASE_SHEETS = [(1,), (3,), (2, 3), (3, 3), (4, 2), (1, 3, 2), (2, 2, 2), (3, 3, 2), (2, 1, 3, 2)]
+ODD_BOOKS = [
+    ((1,), ()), ((4,), ()), ((2, 3, 2), ()), ((1, 1, 1), ()),
+    ((1,), (("among", 0, ()),)), ((1,), (("among", 0, (0,)),)), ((2, 2), (("among", 1, ()),)),
+    ((2, 3), (("match", 0, 1, ()),)), ((2, 2, 2), (("either", 0, 1, 2, 0), ("match", 1, 2, ()))),
+    ((1, 1), (("match", 0, 1, ((0, 0),)), ("either", 0, 0, 1, 0))),
+    ((1, 1), (("match", 0, 1, ((0, 0),)), ("match", 0, 1, ()))),
+    ((3, 3), (("either", 0, 1, 1, 2), ("either", 0, 1, 1, 2))),
+    ((3, 3), (("either", 0, 1, 1, 2), ("either", 0, 2, 1, 2))),
+    ((3, 3), (("either", 0, 1, 1, 2), ("either", 0, 1, 1, 1))),
+    ((3, 3, 2), (("either", 0, 0, 1, 2), ("match", 1, 2, ((0, 1), (2, 0))))),
+    ((3, 3, 2), (("either", 0, 0, 1, 2), ("match", 1, 2, ((0, 1), (2, 0))), ("among", 1, (0,)))),
+    ((2, 2, 2), (("among", 0, (0,)), ("among", 0, (0,)), ("among", 0, (1,)), ("among", 0, (1,)))),
+    ((3, 3, 3), (("match", 0, 1, ((0, 0), (1, 1), (2, 2))), ("match", 1, 2, ((0, 1), (1, 2), (2, 0))))),
+    ((3, 3, 3), (("match", 0, 1, ((0, 0), (1, 1), (2, 2))), ("match", 1, 2, ((0, 1), (1, 2), (2, 0))),
+                 ("match", 0, 2, ((0, 0), (1, 1), (2, 2))))),
+    ((2, 2, 2), (("either", 0, 0, 1, 0), ("either", 0, 1, 1, 0), ("either", 0, 0, 1, 1), ("either", 0, 1, 1, 1))),
+    ((2, 2, 2), (("match", 0, 1, ((0, 0), (1, 1))), ("match", 0, 2, ((0, 0), (1, 1))),
+                 ("match", 1, 2, ((0, 1), (1, 0))), ("among", 0, (0, 1)))),
+]
+
+
+def cases(seed, many_books=12, most_rules=6):
+    """A list of triples (sheet, book, the list of the fillings that keep it): many, one and none."""
+    books = [(sheet, book) for at, sheet in enumerate(CASE_SHEETS) for tight in (0.5, 0.8, 0.95)
+             for book in some_books(100 * seed + at, sheet, many_books, most_rules, tight)]
+    return [(sheet, book, keeping(sheet, book)) for sheet, book in ODD_BOOKS + books]
+
+
+def books_of_two_rules(sheet):
+    return [(sheet, book, keeping(sheet, book)) for book in product(all_rules(sheet), repeat=2)]
+
+
+def shapes_told(pairs):
+    """All shapes of F4 that a set of pairs has, each with its values."""
+    lows, highs = {low for low, _ in pairs}, {high for _, high in pairs}
+    told = [("all",)] if pairs == set(product(lows, highs)) else []
+    if len(lows) > 1 and len(lows) == len(highs) == len(pairs):
+        told.append(("match",))
+    if len(lows) > 1 and len(highs) > 1:
+        told += [("either", x, y) for x in sorted(lows) for y in sorted(highs)
+                 if pairs == {(low, high) for low, high in product(lows, highs) if low == x or high == y}]
+    return told
+
+
+def essence_told(sheet, kept):
+    """The essence of a book that these fillings, one or more, keep."""
+    rules = []
+    for field, many in enumerate(sheet):
+        values = tuple(sorted({filling[field] for filling in kept}))
+        if len(values) < many:
+            rules.append(("among", field, values))
+    for low, high in combinations(range(len(sheet)), 2):
+        pairs = {(filling[low], filling[high]) for filling in kept}
+        [told] = shapes_told(pairs)
+        if told[0] == "match":
+            rules.append(("match", low, high, tuple(sorted(pairs))))
+        if told[0] == "either":
+            rules.append(("either", low, told[1], high, told[2]))
+    return tuple(rules)
+
+
+def mix(first, second, third):
+    return tuple(one if one == other else last for one, other, last in zip(first, second, third))
+
+
+def with_mixes(seen):
+    """The least set of F7 that has the fillings and with any three of its members their mix."""
+    have = set(seen)
+    while True:
+        more = {mix(*three) for three in product(have, repeat=3)} - have
+        if not more:
+            return have
+        have |= more
+
+
+def left_out_one_by_one(book, spare):
+    """The indexes left where, from the last rule on, each is left out if spare tells so of the rest and the rule."""
+    left = list(range(len(book)))
+    for at in range(len(book) - 1, -1, -1):
+        rest = [one for one in left if one != at]
+        if spare(tuple(book[one] for one in rest), book[at]):
+            left = rest
+    return left
+
+
+# --- books of the largest sheet, whose fillings are too many to go through
+
+def rule_fields(rule):
+    return {"among": rule[1:2], "match": rule[1:3], "either": rule[1:4:2]}[rule[0]]
+
+
+def tried(sheet, book, part=None):
+    """The fillings that keep a book and agree with a part, ascending: value after value, until a rule is broken."""
+    values = [range(many) if part is None or part[field] is None else [part[field]]
+              for field, many in enumerate(sheet)]
+    # Each rule can be asked as soon as the last one of its fields has a value.
+    asked = [[rule for rule in book if max(rule_fields(rule)) == field] for field in range(len(sheet))]
+
+    def longer(begun):
+        if len(begun) == len(sheet):
+            yield begun
+            return
+        for value in values[len(begun)]:
+            more = begun + (value,)
+            if all(rule_keeps(rule, more) for rule in asked[len(begun)]):
+                yield from longer(more)
+
+    return longer(())
+
+
+def kept_rules(dice, sheet, shown, size, tight=0.9):
+    """A book of so many rules that hold of all fillings shown."""
+    book = []
+    while len(book) < size:
+        rule = some_rule(dice, sheet, tight)
+        if all(rule_keeps(rule, filling) for filling in shown):
+            book.append(rule)
+    return tuple(book)
+
+
 # --- values that are wrong
 
 def nested(deep, wrap):
@@ -184,6 +308,7 @@ def any_values():
         None, True, False, -1, 9, 10 ** 30, -10 ** 30, "", "a", "0", "among", "(1,)", "a in 0\n",
         [], (), [None], (None,), ["among", 0, ()], [("among", 0, ())], (-1,), (True,), (False,), ("0",), ((0,),),
         ([0],), FieldError("x"), InvalidSheet("x"), (InvalidSheet("x"),), (FieldError("x"), 1),
+        RuleBook((1,)), (RuleBook((1,), ("among", 0, ())),), [RuleBook((2, 2))],
         (0,) * 1999, [1] * 1999, (1,) * 9, (None,) * 9, nested(30, lambda value: (value,)),
         nested(30, lambda value: [value]), nested(15, lambda value: ([value],)),
         ("among",), ("match",), ("either",), ("among", None, None), ("match", [], [], []), ("either", 0, 0, 0, 0),
