@@ -26,8 +26,6 @@ def breaking(sheet, book, rule):
 
 def least_breaking(sheet, table, rules):
     """The least filling that keeps the book of a table and breaks some of the rules, None if there is none."""
-    if table is None:
-        return None
     return least([least_filling(table, part) for rule in rules for part in misses(sheet, rule)])
 
 

@@ -1,7 +1,7 @@
 """Following: what values force by the rules of a book, and whether they clash."""
 
 from eitherfields.checks import need_book, need_entry, need_field, need_part, need_sheet
-from eitherfields.sheets import fields_of
+from eitherfields.sheets import fields_of, part_of
 
 
 def followed(sheet, book, part):
@@ -11,11 +11,8 @@ def followed(sheet, book, part):
     need_part(sheet, part)
     filled = [(field, value) for field, value in enumerate(part) if value is not None]
     come, paper = spread(rules_by_field(sheet, book), filled)
-    if paper is not None:
-        return None
     # Without a clash no field has come twice.
-    values = {field: value for field, value in come}
-    return tuple([values.get(field) for field in range(len(sheet))])
+    return part_of(sheet, come) if paper is None else None
 
 
 def clash(sheet, book, field, entry):

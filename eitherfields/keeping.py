@@ -44,10 +44,7 @@ def finished(sheet, book, part=None):
     need_sheet(sheet)
     need_book(sheet, book)
     need_part_or_none(sheet, part)
-    table = table_of(sheet, book)
-    if table is None:
-        return None
-    return least_filling(table, nothing_filled(sheet) if part is None else part)
+    return least_filling(table_of(sheet, book), nothing_filled(sheet) if part is None else part)
 
 
 def fillings(sheet, book, *, most=100):

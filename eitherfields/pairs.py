@@ -4,7 +4,8 @@ from eitherfields.checks import need_book, need_entry, need_field, need_other_fi
 from eitherfields.checks import need_sheet
 from eitherfields.errors import Unkeepable
 from eitherfields.shapes import least_shape, table_essence
-from eitherfields.tables import come_of, filled_in, meets, nothing_filled, pairs_left, replaced, table_of, values_left
+from eitherfields.tables import come_of, filled_in, meets, nothing_filled, options_left, pairs_left, replaced
+from eitherfields.tables import sure_values, table_of
 
 
 def can_be(sheet, book, field):
@@ -12,8 +13,7 @@ def can_be(sheet, book, field):
     need_sheet(sheet)
     need_book(sheet, book)
     need_field(sheet, field)
-    table = table_of(sheet, book)
-    return [] if table is None else values_left(table, nothing_filled(sheet), field)
+    return options_left(table_of(sheet, book), nothing_filled(sheet), field)
 
 
 def pairs(sheet, book, field, other_field):
@@ -50,11 +50,10 @@ def sure(sheet, book, part=None):
     need_book(sheet, book)
     need_part_or_none(sheet, part)
     table = table_of(sheet, book)
-    come = None if table is None else come_of(table, nothing_filled(sheet) if part is None else part)
+    come = come_of(table, nothing_filled(sheet) if part is None else part)
     if come is None:
         raise Unkeepable("no filling keeps the book and agrees with the part")
-    left = [values_left(table, come, field) for field in range(len(sheet))]
-    return [(field, values[0]) for field, values in enumerate(left) if len(values) == 1]
+    return sure_values(table, come)
 
 
 def stuck(sheet, book, part):
@@ -62,22 +61,20 @@ def stuck(sheet, book, part):
     need_sheet(sheet)
     need_book(sheet, book)
     need_part(sheet, part)
-    table = table_of(sheet, book)
+    return to_blame(table_of(sheet, book), part)
+
+
+def to_blame(table, part):
+    """None if a part can be finished; else the least tuple of fields that are to blame, () if the table is None."""
     if table is None:
         return ()
     if come_of(table, part) is not None:
         return None
-    return to_blame(table, filled_in(part))
-
-
-def to_blame(table, filled):
-    """The least field whose value cannot be, or else the least two whose values cannot be together, as a tuple.
-
-    filled are the pairs (field, value) of a part that cannot be finished, so by F3 there is one or there are two.
-    """
+    filled = filled_in(part)
     bad = [field for field, value in filled if table[field][value] is None]
     if bad:
         return (bad[0],)
+    # By F3 there are two fields whose values cannot be together.
     apart = [(field, other_field) for field, value in filled for other_field, other in filled
              if field < other_field and not meets(table[field][value], table[other_field][other])]
     return apart[0]
@@ -92,7 +89,7 @@ def barring(sheet, book, part, field, entry):
     need_entry(sheet, field, entry)
     table = table_of(sheet, book)
     others = replaced(part, field, None)
-    if table is None or come_of(table, others) is None:
+    if come_of(table, others) is None:
         raise Unkeepable("the part with this field empty cannot be finished")
     more = table[field][entry]
     if more is None:

@@ -78,6 +78,12 @@ def rule_holds(rule, filling):
     return filling[field] == value or filling[other_field] == other_value
 
 
+def part_of(sheet, choices):
+    """The part that has the values of some pairs (field, value) of different fields, and no others."""
+    values = {field: value for field, value in choices}
+    return tuple([values.get(field) for field in range(len(sheet))])
+
+
 def fields_of(rule):
     """The ascending tuple of the fields of which a rule speaks."""
     if rule[0] == "among":

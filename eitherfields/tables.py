@@ -6,7 +6,7 @@ part is put together from the table, and, by F2 and F3 of the document, all answ
 """
 
 from eitherfields.following import rules_by_field, spread
-from eitherfields.sheets import fields_of, rule_holds
+from eitherfields.sheets import fields_of, part_of, rule_holds
 
 
 def table_of(sheet, book):
@@ -21,10 +21,7 @@ def table_of(sheet, book):
 def brought(sheet, by_field, field, value):
     """The part that has come from a value, followed alone, None if it clashes."""
     come, paper = spread(by_field, [(field, value)])
-    if paper is not None:
-        return None
-    values = {one: entry for one, entry in come}
-    return tuple([values.get(one) for one in range(len(sheet))])
+    return part_of(sheet, come) if paper is None else None
 
 
 def nothing_filled(sheet):
@@ -53,7 +50,12 @@ def united(part, other):
 
 
 def come_of(table, part):
-    """The part that has come from the values of a part, None if they clash."""
+    """The part that has come from the values of a part, None if they clash or no filling keeps the book.
+
+    So, by F2, None exactly if the part cannot be finished.
+    """
+    if table is None:
+        return None
     come = nothing_filled(part)
     for field, value in filled_in(part):
         more = table[field][value]
@@ -66,6 +68,18 @@ def come_of(table, part):
 def values_left(table, come, field):
     """The ascending list of the values of the field that can be chosen beside what has come from a part."""
     return [value for value, more in enumerate(table[field]) if more is not None and meets(come, more)]
+
+
+def options_left(table, part, field):
+    """The ascending list of the values with which, in a field that is empty, the part can be finished."""
+    come = come_of(table, part)
+    return [] if come is None else values_left(table, come, field)
+
+
+def sure_values(table, come):
+    """The ascending list of the pairs (field, value) that are sure beside what has come from a part."""
+    left = [values_left(table, come, field) for field in range(len(table))]
+    return [(field, values[0]) for field, values in enumerate(left) if len(values) == 1]
 
 
 def least_filling(table, part):
@@ -96,7 +110,7 @@ def misses(sheet, rule):
 
 def rule_follows(sheet, table, rule):
     """Whether the rule holds of all fillings that keep the book; table is None if there are none."""
-    return table is None or all([come_of(table, part) is None for part in misses(sheet, rule)])
+    return all([come_of(table, part) is None for part in misses(sheet, rule)])
 
 
 def whittled(book, spare):

@@ -7,7 +7,9 @@ import random
 from itertools import combinations, permutations, product
 
 from eitherfields.books import RuleBook
+from eitherfields.console import Console
 from eitherfields.errors import FieldError, InvalidSheet
+from eitherfields.forms import Form, StrictKeenForm
 
 SMALL_SHEETS = [(1,), (2,), (4,), (2, 3), (3, 2), (1, 4), (2, 2, 2), (3, 1, 2), (2, 3, 2)]
 LARGEST = (5,) * 8
@@ -309,6 +311,7 @@ def any_values():
         [], (), [None], (None,), ["among", 0, ()], [("among", 0, ())], (-1,), (True,), (False,), ("0",), ((0,),),
         ([0],), FieldError("x"), InvalidSheet("x"), (InvalidSheet("x"),), (FieldError("x"), 1),
         RuleBook((1,)), (RuleBook((1,), ("among", 0, ())),), [RuleBook((2, 2))],
+        Form((2, 2), ()), StrictKeenForm((1,), ()), (Form((1,), ()),), Console((3, 3, 2), ()), [Console((1,), ())],
         (0,) * 1999, [1] * 1999, (1,) * 9, (None,) * 9, nested(30, lambda value: (value,)),
         nested(30, lambda value: [value]), nested(15, lambda value: ([value],)),
         ("among",), ("match",), ("either",), ("among", None, None), ("match", [], [], []), ("either", 0, 0, 0, 0),

@@ -4,16 +4,17 @@ import inspect
 import unittest
 from itertools import permutations, product
 
-from eitherfields import books, following, keeping, pairs, sheets
+from eitherfields import books, following, keeping, pairs, sheets, words
 from eitherfields.books import alike, because, breaking, follows, lean, learned, needless, only, parting
 from eitherfields.errors import (
     FieldError, InvalidBook, InvalidChoice, InvalidEntry, InvalidField, InvalidFilling, InvalidPart, InvalidRule,
-    InvalidSheet, Unkeepable)
+    InvalidSheet, InvalidWords, Unkeepable)
 from eitherfields.following import clash, followed
 from eitherfields.keeping import core, fillings, finished, keepable, paper
 from eitherfields.pairs import barring, can_be, essence, shape, stuck, sure
 from eitherfields.sheets import (
     agrees, broken, holds, is_book, is_filling, is_part, is_rule, is_sheet, mixed)
+from eitherfields.words import read_book, read_part, read_rule, write_book, write_part, write_rule
 from tests.helpers import LARGEST, any_values, copied, same
 from tests.wrong import BOOK, ERRORS, FILLING, RULE, SHEET, few_wrong_values, wrong_values
 
@@ -53,12 +54,20 @@ FUNCTIONS = [
     (lean, [("sheet", SHEET), ("book", BOOK)]),
     (only, [("sheet", SHEET), ("book", BOOK), ("kept_fields", (0, 2))]),
     (learned, [("sheet", SHEET), ("seen", [FILLING, (0, 0, 0)])]),
+    (write_rule, [("sheet", SHEET), ("rule", RULE)]),
+    (read_rule, [("sheet", SHEET), ("words", "b with c 0:1 2:0")]),
+    (write_book, [("sheet", SHEET), ("book", BOOK)]),
+    (read_book, [("sheet", SHEET), ("words", "a 0 or b 2 and b with c 0:1 2:0")]),
+    (write_part, [("sheet", SHEET), ("part", PART)]),
+    (read_part, [("sheet", SHEET), ("words", "1 - -")]),
 ]
 HOMES = {sheets: [is_sheet, is_rule, is_book, is_part, is_filling, holds, broken, agrees, mixed],
          following: [followed, clash], keeping: [keepable, paper, core, finished, fillings],
          pairs: [can_be, pairs.pairs, shape, essence, sure, stuck, barring],
-         books: [follows, breaking, because, alike, parting, needless, lean, only, learned]}
+         books: [follows, breaking, because, alike, parting, needless, lean, only, learned],
+         words: [write_rule, read_rule, write_book, read_book, write_part, read_part]}
 BY_NAME_ONLY = {mixed: ["first", "second", "third"], fillings: ["most"]}
+KINDS_OF_WORDS = {read_rule: "rule_words", read_book: "book_words", read_part: "part_words"}
 DEFAULTS = {finished: {"part": None}, sure: {"part": None}, fillings: {"most": 100}}
 
 # The one that tells of any value, and all others raise nothing for it.
@@ -67,6 +76,8 @@ ANY_VALUE = "value"
 
 def kind_of(function, name):
     """What a parameter wants, where its name alone does not tell."""
+    if name == "words":
+        return KINDS_OF_WORDS[function]
     return "part_or_none" if name == "part" and name in DEFAULTS.get(function, {}) else name
 
 
@@ -209,7 +220,11 @@ class Errors(unittest.TestCase):
                 (alike, ((2, 3), (), wrong_book), InvalidBook), (alike, ((2, 3), wrong_book, ()), InvalidBook),
                 (parting, ((2, 3), (), wrong_book), InvalidBook), (parting, ((2, 3), wrong_book, ()), InvalidBook),
                 (needless, ((2, 3), wrong_book), InvalidBook), (lean, ((2, 3), wrong_book), InvalidBook),
-                (only, ((2, 3), (), (0, 2)), InvalidChoice), (learned, ((2, 3), [(0, 0), (2, 0)]), InvalidChoice)):
+                (only, ((2, 3), (), (0, 2)), InvalidChoice), (learned, ((2, 3), [(0, 0), (2, 0)]), InvalidChoice),
+                (write_rule, ((2, 3), ("among", 0, (2,))), InvalidRule), (read_rule, ((2, 3), "a in 2"), InvalidWords),
+                (write_book, ((2, 3), wrong_book), InvalidBook),
+                (read_book, ((2, 3), "a with b 2:0"), InvalidWords), (write_part, ((2, 3), (0, 3)), InvalidPart),
+                (read_part, ((2, 3), "0 3"), InvalidWords), (read_part, ((2, 3), "0 0 0"), InvalidWords)):
             with self.assertRaises(FieldError) as caught:
                 function(*arguments)
             self.assertIs(type(caught.exception), error, (function, arguments))
@@ -263,6 +278,7 @@ class Errors(unittest.TestCase):
             self.assertEqual(needless(SHEET, book), list(range(len(book))))
             self.assertIsNone(parting(SHEET, book, BOOK))
             self.assertEqual(essence(SHEET, book), essence(SHEET, BOOK))
+            self.assertEqual(read_book(SHEET, write_book(SHEET, book)), book)
         self.assertEqual(learned(SHEET, [(0, 0, 1), (1, 2, 0), (2, 2, 0)] * 100), essence(SHEET, BOOK))
         many = tuple(("either", low, 4, high, 4) for low in range(8) for high in range(low + 1, 8))
         self.assertEqual(broken(LARGEST, many, (4,) * 8), [])

@@ -1,7 +1,8 @@
 """Wrong arguments for each parameter by its name, and the error that each of them has."""
 
 from eitherfields.errors import (
-    InvalidBook, InvalidChoice, InvalidEntry, InvalidField, InvalidFilling, InvalidPart, InvalidRule, InvalidSheet)
+    InvalidBook, InvalidChoice, InvalidEntry, InvalidField, InvalidFilling, InvalidPart, InvalidRule, InvalidSheet,
+    InvalidWords)
 from tests.helpers import any_values, same, spoiled
 
 SHEET = (3, 3, 2)
@@ -12,9 +13,19 @@ FILLING = (1, 0, 1)
 ERRORS = {"sheet": InvalidSheet, "rule": InvalidRule, "book": InvalidBook, "one": InvalidBook, "other": InvalidBook,
           "part": InvalidPart, "part_or_none": InvalidPart, "filling": InvalidFilling, "first": InvalidFilling,
           "second": InvalidFilling, "third": InvalidFilling, "field": InvalidField, "other_field": InvalidField,
-          "entry": InvalidEntry, "kept_fields": InvalidChoice, "seen": InvalidChoice, "most": InvalidChoice}
+          "entry": InvalidEntry, "kept_fields": InvalidChoice, "seen": InvalidChoice, "most": InvalidChoice,
+          "words": InvalidWords}
 SAME_AS = {"first": "filling", "second": "filling", "third": "filling", "one": "book", "other": "book",
            "part_or_none": "part"}
+
+
+# Strings that no reader takes, and for each reader those that one of the others takes.
+NO_WORDS = ["", " ", "x", "a", "- -", "a in", "a in 3", "a in 1 0", "A in 0", "a in 0 ", " a in 0", "a  in 0",
+            "a in\n0", "b with a 0:0", "d in 0", "c 0 or a 0", "a 0 or a 0", "0", "0 0", "0 0 0 0", "3 0 0", "0 0 2",
+            "- - - -", "and", "- and a in 0", "a in 0 and", "a in 0 and -", "a in 0 b in 0", "None", "()", str(RULE),
+            str(BOOK)]
+OTHER_WORDS = {"rule_words": ["-", "a in 0 and b in 0", "- - -", "0 0 0"], "book_words": ["- - -", "0 - 1"],
+               "part_words": ["-", "a in 0", "a 0 or b 2", "a in 0 and b in 0"]}
 
 
 def near_values(name):
@@ -43,6 +54,8 @@ def near_values(name):
 
 def wrong_values(name):
     """Wrong arguments of a parameter, where the sheet is SHEET, the field is 1 and all others are right."""
+    if name in OTHER_WORDS:
+        return NO_WORDS + OTHER_WORDS[name]
     return near_values(name) + [value for value in any_values() if not right_by_chance(name, value)]
 
 
@@ -55,4 +68,6 @@ def right_by_chance(name, value):
 
 
 def few_wrong_values(name):
+    if name in OTHER_WORDS:
+        return ["", "x", "a in 0 -"]
     return [value for value in [None, 10 ** 30, "x"] if not right_by_chance(name, value)]
